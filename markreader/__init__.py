@@ -1,0 +1,1 @@
+"""Marked text read in pieces, with marks for what isn't known yet."""
