@@ -2,8 +2,9 @@
 
 from markreader.modes import ENDED, FAULTY
 from markreader.signs import is_sign
-from markreader.state import Reader
+from markreader.state import OPEN_TAG_TOKEN, Reader
 from markreader.steps import read_end, read_signs
+from markreader.writing import write_tokens
 
 MOST_SIGNS = 16384
 
@@ -11,6 +12,7 @@ NOT_REFUSED = 0
 NO_SIGN = -1
 NOTHING_READ_ANY_MORE = -2
 TOO_MANY_SIGNS = -3
+NO_SUCH_TOKEN = -4
 
 
 def reads_no_more(reader):
@@ -27,6 +29,10 @@ def refusal_of(signs, read_before):
     if read_before + len(signs) > MOST_SIGNS:
         return TOO_MANY_SIGNS
     return NOT_REFUSED
+
+
+def with_length(signs):
+    return [len(signs)] + list(signs)
 
 
 def begin(reader):
@@ -59,6 +65,38 @@ def tokens(reader):
     return [len(reader.tokens)]
 
 
+def parts_of_open_tag(tag):
+    parts = [tag.ended] + with_length(tag.signs) + [len(tag.attributes)]
+    for name, value in tag.attributes.items():
+        parts.extend(with_length(name))
+        parts.extend(with_length(value))
+    return parts
+
+
+def token(reader, i):
+    if not 0 <= i < len(reader.tokens):
+        return [NO_SUCH_TOKEN]
+    asked = reader.tokens[i]
+    parts = parts_of_open_tag(asked) if asked.kind == OPEN_TAG_TOKEN else asked.signs
+    return [asked.kind, asked.place] + parts
+
+
+def state(reader):
+    counts = [reader.mode, reader.read_count, len(reader.attributes)]
+    return counts + with_length(reader.tag_name) + with_length(reader.attribute_name) + with_length(reader.body)
+
+
+def marks(reader):
+    answer = [len(reader.marks)]
+    for mark, spot in reader.marks:
+        answer.extend([mark, spot])
+    return answer
+
+
+def written(reader):
+    return with_length(write_tokens(reader.tokens))
+
+
 def whole(reader, signs):
     refusal = refusal_of(signs, 0)
     if refusal != NOT_REFUSED:
@@ -71,8 +109,30 @@ def whole(reader, signs):
 
 
 # By the calls' numbers.
-CALLS_WITHOUT_SIGNS = {0: begin, 2: end, 3: fault, 4: tokens}
+CALLS_ALONE = {0: begin, 2: end, 3: fault, 4: tokens, 6: state, 7: marks, 8: written}
+CALLS_WITH_NUMBER = {5: token}
 CALLS_WITH_SIGNS = {1: feed, 9: whole}
+
+
+def length_of_call(calls, position):
+    number = calls[position]
+    if number in CALLS_WITH_SIGNS:
+        return 2 + calls[position + 1]
+    if number in CALLS_WITH_NUMBER:
+        return 2
+    return 1
+
+
+def answer_of(reader, call):
+    number = call[0]
+    if number in CALLS_WITH_SIGNS:
+        call_with_signs = CALLS_WITH_SIGNS[number]
+        return call_with_signs(reader, call[2:])
+    if number in CALLS_WITH_NUMBER:
+        call_with_number = CALLS_WITH_NUMBER[number]
+        return call_with_number(reader, call[1])
+    call_alone = CALLS_ALONE[number]
+    return call_alone(reader)
 
 
 def answers(calls):
@@ -80,17 +140,7 @@ def answers(calls):
     answered = []
     position = 0
     while position < len(calls):
-        number = calls[position]
-        if number in CALLS_WITH_SIGNS:
-            first = position + 2
-            behind = first + calls[position + 1]
-            call_with_signs = CALLS_WITH_SIGNS[number]
-            answer = call_with_signs(reader, calls[first:behind])
-        else:
-            behind = position + 1
-            call_without_signs = CALLS_WITHOUT_SIGNS[number]
-            answer = call_without_signs(reader)
-        answered.append(len(answer))
-        answered.extend(answer)
+        behind = position + length_of_call(calls, position)
+        answered.extend(with_length(answer_of(reader, calls[position:behind])))
         position = behind
     return answered

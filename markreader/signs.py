@@ -1,5 +1,6 @@
 """The signs of a text, and what each sort of sign is called."""
 
+SPACE = 32
 EXCLAMATION = 33
 QUOTE = 34
 NUMBER_SIGN = 35

@@ -6,6 +6,9 @@ BEGIN = [0]
 END = [2]
 FAULT = [3]
 TOKENS = [4]
+STATE = [6]
+MARKS = [7]
+WRITTEN = [8]
 
 MOST_SIGNS = 16384
 
@@ -31,15 +34,30 @@ def whole(*parts):
     return with_signs(9, parts)
 
 
+def token(i):
+    return [5, i]
+
+
+# All that a reader tells, which changes nothing in it.
+TELLING = [FAULT, TOKENS, STATE, MARKS, WRITTEN] + [token(i) for i in range(8)]
+
+
 def ask(*calls):
     """The answers of these calls on one new reader, a list for each call."""
     line = [number for call in calls for number in call]
     given = answers(line)
     apart = []
-    while given:
-        apart.append(given[1:1 + given[0]])
-        given = given[1 + given[0]:]
+    first = 0
+    while first < len(given):
+        behind = first + 1 + given[first]
+        apart.append(given[first + 1:behind])
+        first = behind
     return apart
+
+
+def ask_last(*calls):
+    """The answer of the last of these calls."""
+    return ask(*calls)[-1]
 
 
 def fault_behind(*parts):
@@ -52,7 +70,32 @@ def tokens_behind(*parts):
     return ask(feed(*parts), TOKENS)[1][0]
 
 
-# For each mode that reads, a text that leads a new reader to it.
+def told_tokens(*parts):
+    """The answers of token for all tokens of a whole reading of these, which must have no fault."""
+    line = whole(*parts)
+    answer, count = ask(line, TOKENS)
+    if answer != [0]:
+        raise ValueError("a fault in " + repr(parts))
+    return ask(line, *[token(i) for i in range(count[0])])[1:]
+
+
+def written_behind(*parts):
+    """The signs of the written form behind a whole reading of these, with or without a fault."""
+    given = ask_last(whole(*parts), WRITTEN)
+    if given[0] != len(given) - 1:
+        raise ValueError("a wrong length ahead of the written signs")
+    return given[1:]
+
+
+def listed(*texts):
+    """Each text with its length before it, one behind another."""
+    numbers = []
+    for text in texts:
+        numbers.extend([len(signs(*text))] + signs(*text))
+    return numbers
+
+
+# For each mode that reads, texts that lead a new reader to it.
 WAYS = {
     0: ["", "a", "<a>", "</a>", "<a/>", "<!---->", "<calc></calc>", "a&lt;"],
     1: ["&", "a&"],

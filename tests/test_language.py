@@ -135,6 +135,40 @@ class Language(unittest.TestCase):
                 values.append(node.attr)
         self.assertEqual([name for name in values if name in methods], [])
 
+    def test_own_methods_and_values_are_not_called_like_those_of_python_s_values(self):
+        taken = [name for kind in (str, int, list, dict, set, bytes) for name in dir(kind)]
+        for where, node in self.nodes():
+            if isinstance(node, ast.ClassDef):
+                for part in node.body:
+                    self.assertTrue(part.name == "__init__" or part.name not in taken, where)
+            if isinstance(node, ast.Attribute) and isinstance(node.ctx, ast.Store):
+                self.assertNotIn(node.attr, taken, where)
+
+    def test_lists_and_dicts_of_a_file_s_top_are_only_read(self):
+        for path, tree in self.trees.items():
+            kept = [node.targets[0].id for node in tree.body
+                    if isinstance(node, ast.Assign) and isinstance(node.value, (ast.List, ast.Dict))]
+            read = []
+            for node in ast.walk(tree):
+                if isinstance(node, ast.Subscript) and isinstance(node.ctx, ast.Load):
+                    read.append(node.value)
+                if isinstance(node, ast.Compare) and isinstance(node.ops[0], (ast.In, ast.NotIn)):
+                    read.append(node.comparators[0])
+                if isinstance(node, ast.For):
+                    read.append(node.iter)
+            for node in ast.walk(tree):
+                if isinstance(node, ast.Name) and isinstance(node.ctx, ast.Load) and node.id in kept:
+                    self.assertIn(node, read, f"{path.name}:{node.lineno}")
+
+    def test_parameters_and_locals_are_not_called_like_what_the_file_draws_or_a_class(self):
+        for path, tree in self.trees.items():
+            taken = [node.name for node in ast.walk(tree) if isinstance(node, (ast.alias, ast.ClassDef))]
+            for node in ast.walk(tree):
+                if isinstance(node, ast.arg):
+                    self.assertNotIn(node.arg, taken, f"{path.name}:{node.lineno}")
+                if isinstance(node, ast.Name) and isinstance(node.ctx, ast.Store):
+                    self.assertNotIn(node.id, taken, f"{path.name}:{node.lineno}")
+
     def test_imports_name_the_file_that_defines_and_go_one_way(self):
         drawn = {}
         for path, tree in self.trees.items():

@@ -2,7 +2,9 @@
 
 import unittest
 
-from tests.calls import BEGIN, END, FAULT, MOST_SIGNS, TOKENS, WAYS, ask, feed, whole
+from tests.calls import (
+    BEGIN, END, FAULT, MOST_SIGNS, STATE, TELLING, TOKENS, WAYS, WRITTEN, ask, feed, signs, token, whole,
+)
 
 
 class Whole(unittest.TestCase):
@@ -14,9 +16,15 @@ class Whole(unittest.TestCase):
     def test_as_begin_feed_and_end(self):
         for mode in WAYS:
             for way in WAYS[mode]:
-                for ahead in ([], [feed("a<b")], [feed("<1")], [END], [feed("&am")]):
-                    apart = ask(*ahead, BEGIN, feed(way), END, FAULT, TOKENS)
-                    self.assertEqual(ask(*ahead, whole(way), FAULT, TOKENS)[len(ahead):], apart[len(ahead) + 2:], way)
+                for ahead in ([], [feed("a<b")], [feed("<1")], [END], [feed("&am")], [feed(256, "<a b='c' d")]):
+                    apart = ask(*ahead, BEGIN, feed(way), END, *TELLING)
+                    self.assertEqual(ask(*ahead, whole(way), *TELLING)[len(ahead):], apart[len(ahead) + 2:], way)
+
+    def test_as_begin_and_feed_where_there_is_a_fault_then(self):
+        for text in ("<a b=c b>d", "x&;y", "<calc>1</calx", "a<1<b>"):
+            for ahead in ([], [feed("a<b c")], [whole("a")], [feed("&am")], [feed(256, "<1")]):
+                apart = ask(*ahead, BEGIN, feed(text), *TELLING)
+                self.assertEqual(ask(*ahead, whole(text), *TELLING)[len(ahead):], apart[len(ahead) + 1:], text)
 
     def test_the_end_has_come_behind_it(self):
         self.assertEqual(ask(whole("a"), feed("a"), END, TOKENS, FAULT), [[0], [-2], [-2], [1], [0, 0]])
@@ -75,11 +83,18 @@ class Examples(unittest.TestCase):
         ):
             self.assertEqual(ask(whole(text), FAULT, TOKENS), [[answer], fault, [tokens]], text)
 
-    def test_what_the_examples_are_written_as(self):
-        self.assertEqual(ask(whole("a&lt;<b c=\"x&quot;\" d=\"\"/>"), FAULT, TOKENS), [[0], [0, 0], [2]])
+    def test_the_tokens_of_the_first_and_what_they_are_written_as(self):
+        form = signs("a&lt;<b c=\"x&quot;\" d=\"\"/>")
+        self.assertEqual(ask(whole("a&lt;<b c='x\"' d/>"), token(0), token(1), WRITTEN),
+                         [[0], [0, 0, 97, 60], [1, 5, 1, 1, 98, 2, 1, 99, 2, 120, 34, 1, 100, 0], [len(form)] + form])
+        self.assertEqual(ask(whole(*form), FAULT, TOKENS, WRITTEN), [[0], [0, 0], [2], [len(form)] + form])
+
+    def test_the_token_of_the_last(self):
+        self.assertEqual(ask(whole("a<b c="), token(0), token(1)), [[1], [0, 0, 97], [-4]])
 
     def test_a_mark_behind_equals(self):
-        self.assertEqual(ask(feed("<a b=", 256), FAULT, feed(">"), END, TOKENS), [[0], [0, 0], [0], [0], [1]])
+        self.assertEqual(ask(feed("<a b=", 256), STATE, FAULT, feed(">"), END, TOKENS),
+                         [[0], [15, 6, 1, 1, 97, 0, 0], [0, 0], [0], [0], [1]])
 
 
 if __name__ == "__main__":
